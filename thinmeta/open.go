@@ -8,6 +8,7 @@ import (
 	"volumegroup/block"
 	"volumegroup/cowtree"
 	"volumegroup/spacemap"
+	"volumegroup/thinwords"
 )
 
 // seen is a node that was read: entries is the number of its own ones, leaves that of the leaves below it.
@@ -29,8 +30,8 @@ type reference struct {
 
 // opener reads metadata and counts references.
 type opener struct {
-	layout
-	root
+	thinwords.Layout
+	thinwords.Root
 	store   *cowtree.Store
 	at      int // the root block
 	counts  []int
@@ -50,7 +51,7 @@ func (r reference) fits(n seen) bool {
 // visit goes through a node and all that is below it, and returns the number of entries in leaves.
 func (o *opener) visit(r reference) (int, api.Errno) {
 	known, again := o.nodes[int(r.block)]
-	if !o.isNode(r.block) || int(r.block) == o.at || again && known.mapping != r.mapping {
+	if !o.IsNode(r.block) || int(r.block) == o.at || again && known.mapping != r.mapping {
 		return 0, api.ErrDamage
 	}
 	b := int(r.block)
@@ -102,11 +103,11 @@ func (o *opener) children(n api.TreeNode, r reference) (int, api.Errno) {
 // takeEntry checks an entry of a leaf, and takes a device.
 func (o *opener) takeEntry(x api.TreeEntry, mapping bool) bool {
 	if mapping {
-		m := split(mappingWidths(), x.Value)
-		return m[0] < uint64(o.data) && m[1] <= uint64(o.time)
+		m := thinwords.Split(thinwords.MappingWidths(), x.Value)
+		return m[0] < uint64(o.Data) && m[1] <= uint64(o.Time)
 	}
-	d := split(deviceWidths(), x.Value)
-	if x.Key > api.MaxThinID || d[1] > uint64(o.time) || len(o.order) == api.MaxThin {
+	d := thinwords.Split(thinwords.DeviceWidths(), x.Value)
+	if x.Key > api.MaxThinID || d[1] > uint64(o.Time) || len(o.order) == api.MaxThin {
 		return false
 	}
 	o.devices[x.Key] = thin{int(d[0]), int(d[1]), int(d[2])}
@@ -116,8 +117,8 @@ func (o *opener) takeEntry(x api.TreeEntry, mapping bool) bool {
 
 // trees reads the device tree, and then the mapping trees.
 func (o *opener) trees() api.Errno {
-	top := reference{top: true, seq: o.seq, high: math.MaxInt}
-	top.block = uint64(o.tree)
+	top := reference{top: true, seq: o.Seq, high: math.MaxInt}
+	top.block = o.Tree
 	if _, e := o.visit(top); e != api.OK {
 		return e
 	}
@@ -142,41 +143,35 @@ func (o *opener) readTop(x block.Device) api.Errno {
 	if e != api.OK {
 		return e
 	}
-	b, seq, ok := readCommit(w)
+	b, seq, ok := thinwords.ReadCommit(w)
 	if !ok {
 		return api.ErrForm
 	}
-	if b >= newLayout(x.Size(), 1).blocks {
+	if b >= thinwords.NewLayout(x.Size(), 1).Blocks {
 		return api.ErrDamage
 	}
 	words, e := block.ReadAll(x, b*api.BlockWords, api.BlockWords)
 	if e != api.OK {
 		return e
 	}
-	o.root, ok = readRoot(words, b, x.Size())
-	if !ok || o.seq != seq {
+	o.Root, ok = thinwords.ReadRoot(words, b, x.Size())
+	if !ok || o.Seq != seq {
 		return api.ErrDamage
 	}
-	o.at, o.layout = b, newLayout(x.Size(), o.data)
+	o.at, o.Layout = b, thinwords.NewLayout(x.Size(), o.Data)
 	return api.OK
 }
 
 // readArea returns the counts of the data blocks.
 func (o *opener) readArea(x block.Device) ([]int, api.Errno) {
-	words, e := block.ReadAll(x, o.areaAt(o.area), o.areaWords())
+	words, e := block.ReadAll(x, o.AreaAt(o.Area), o.AreaWords())
 	if e != api.OK {
 		return nil, e
 	}
-	if short(words...) != o.sum {
+	if thinwords.Short(words...) != o.Sum {
 		return nil, api.ErrDamage
 	}
-	var counts []int
-	for _, w := range words {
-		for _, n := range split(countWidths(), w) {
-			counts = append(counts, int(n))
-		}
-	}
-	return counts[:o.data], api.OK
+	return thinwords.Counts(words, o.Data), api.OK
 }
 
 // open reads the last commit of a device.
@@ -192,10 +187,10 @@ func open(x block.Device) (*state, api.Errno) {
 	if e != api.OK {
 		return nil, e
 	}
-	empty, _ := spacemap.New(o.blocks)
+	empty, _ := spacemap.New(o.Blocks)
 	o.store = cowtree.New(x, empty, nil, 0)
-	o.counts = make([]int, o.blocks)
-	for b := range o.firstNode() {
+	o.counts = make([]int, o.Blocks)
+	for b := range o.FirstNode() {
 		o.counts[b] = 1
 	}
 	o.counts[o.at] = 1
@@ -205,7 +200,7 @@ func open(x block.Device) (*state, api.Errno) {
 	blocks, _ := spacemap.Load(o.counts)
 	data, _ := spacemap.Load(dataCounts)
 	return &state{
-		Store: cowtree.New(x, blocks, data, o.seq+1), device: x, layout: o.layout, last: o.root, at: o.at, blocks: blocks, data: data,
-		tree: o.tree, time: o.time, devices: o.devices, was: maps.Clone(o.devices),
+		Store: cowtree.New(x, blocks, data, o.Seq+1), device: x, Layout: o.Layout, last: o.Root, at: o.at, blocks: blocks, data: data,
+		tree: int(o.Tree), time: o.Time, devices: o.devices, was: maps.Clone(o.devices),
 	}, api.OK
 }

@@ -11,6 +11,7 @@ import (
 	"volumegroup/block"
 	"volumegroup/checksum"
 	"volumegroup/disk"
+	"volumegroup/thinwords"
 	"volumegroup/treenode"
 )
 
@@ -135,8 +136,8 @@ func TestOpenErrors(t *testing.T) {
 	is(t, m.Commit(), api.OK, "Commit")
 	good := image(t, a)
 	b := int(good[0] & 0xFFFFF)
-	area := 1 + int(good[b*16+rootArea])
-	tree := int(good[b*16+rootTree])
+	area := 1 + int(good[b*16+thinwords.RootArea])
+	tree := int(good[b*16+thinwords.RootTree])
 	// reseal changes a word of a block and seals it.
 	reseal := func(l []uint64, b, i int, w uint64) {
 		l[b*16+i] = w
@@ -153,9 +154,9 @@ func TestOpenErrors(t *testing.T) {
 	}{
 		{func(l []uint64) {}, api.OK}, {func(l []uint64) { l[0] ^= 1 << 63 }, api.ErrForm}, {func(l []uint64) { l[0] ^= 1 << 50 }, api.ErrForm}, {func(l []uint64) { l[0]++ }, api.ErrForm}, {func(l []uint64) { l[0] = 0 }, api.ErrForm},
 		{func(l []uint64) { l[0] = commitOf(uint64(b), 2) }, api.ErrDamage}, {func(l []uint64) { l[0] = commitOf(1<<20-1, 1) }, api.ErrDamage}, {func(l []uint64) { l[0] = commitOf(2, 1) }, api.ErrDamage}, {func(l []uint64) { l[0] = commitOf(uint64(tree), 1) }, api.ErrDamage},
-		{func(l []uint64) { l[b*16+3]++ }, api.ErrDamage}, {func(l []uint64) { reseal(l, b, rootData, 0) }, api.ErrDamage}, {func(l []uint64) { reseal(l, b, rootData, 16385) }, api.ErrDamage}, {func(l []uint64) { reseal(l, b, rootData, 16384) }, api.ErrDamage}, {func(l []uint64) { reseal(l, b, rootChunk, 0) }, api.ErrDamage}, {func(l []uint64) { reseal(l, b, rootChunk, 65) }, api.ErrDamage},
-		{func(l []uint64) { reseal(l, b, rootTime, 1<<20) }, api.ErrDamage}, {func(l []uint64) { reseal(l, b, rootArea, 2) }, api.ErrDamage}, {func(l []uint64) { reseal(l, b, 8, 1) }, api.ErrDamage}, {func(l []uint64) { reseal(l, b, 15, 1) }, api.ErrDamage}, {func(l []uint64) { reseal(l, b, rootTree, 2) }, api.ErrDamage}, {func(l []uint64) { reseal(l, b, rootTree, 5000) }, api.ErrDamage}, {func(l []uint64) { reseal(l, b, rootTree, uint64(b)) }, api.ErrDamage}, {func(l []uint64) { reseal(l, b, 0, l[b*16]|1<<4) }, api.ErrDamage}, {func(l []uint64) { reseal(l, b, rootSeq, 9) }, api.ErrDamage},
-		{func(l []uint64) { l[area*16] ^= 1 }, api.ErrDamage}, {func(l []uint64) { reseal(l, b, rootSum, l[b*16+rootSum]^1) }, api.ErrDamage},
+		{func(l []uint64) { l[b*16+3]++ }, api.ErrDamage}, {func(l []uint64) { reseal(l, b, thinwords.RootData, 0) }, api.ErrDamage}, {func(l []uint64) { reseal(l, b, thinwords.RootData, 16385) }, api.ErrDamage}, {func(l []uint64) { reseal(l, b, thinwords.RootData, 16384) }, api.ErrDamage}, {func(l []uint64) { reseal(l, b, thinwords.RootChunk, 0) }, api.ErrDamage}, {func(l []uint64) { reseal(l, b, thinwords.RootChunk, 65) }, api.ErrDamage},
+		{func(l []uint64) { reseal(l, b, thinwords.RootTime, 1<<20) }, api.ErrDamage}, {func(l []uint64) { reseal(l, b, thinwords.RootArea, 2) }, api.ErrDamage}, {func(l []uint64) { reseal(l, b, 8, 1) }, api.ErrDamage}, {func(l []uint64) { reseal(l, b, 15, 1) }, api.ErrDamage}, {func(l []uint64) { reseal(l, b, thinwords.RootTree, 2) }, api.ErrDamage}, {func(l []uint64) { reseal(l, b, thinwords.RootTree, 5000) }, api.ErrDamage}, {func(l []uint64) { reseal(l, b, thinwords.RootTree, uint64(b)) }, api.ErrDamage}, {func(l []uint64) { reseal(l, b, 0, l[b*16]|1<<4) }, api.ErrDamage}, {func(l []uint64) { reseal(l, b, thinwords.RootSeq, 9) }, api.ErrDamage},
+		{func(l []uint64) { l[area*16] ^= 1 }, api.ErrDamage}, {func(l []uint64) { reseal(l, b, thinwords.RootSum, l[b*16+thinwords.RootSum]^1) }, api.ErrDamage},
 		{func(l []uint64) { l[tree*16] ^= 1 }, api.ErrDamage}, {func(l []uint64) { reseal(l, tree, 1, 70000) }, api.ErrDamage}, {func(l []uint64) { reseal(l, tree, 2, 1) }, api.ErrDamage}, {func(l []uint64) { reseal(l, tree, 8, l[tree*16+8]|1<<20) }, api.ErrDamage}, {func(l []uint64) { reseal(l, tree, 8, l[tree*16+8]+1<<40) }, api.ErrDamage}, {func(l []uint64) { reseal(l, tree, 15, 2) }, api.ErrDamage},
 		{func(l []uint64) { reseal(l, tree, 8, uint64(tree)|9<<40) }, api.ErrDamage}, {func(l []uint64) { reseal(l, tree, 8, uint64(b)|9<<40) }, api.ErrDamage}, {func(l []uint64) { reseal(l, tree, 8, 1|9<<40) }, api.ErrDamage}, {func(l []uint64) { reseal(l, tree, 9, uint64(root1)|9<<40) }, api.OK}, {func(l []uint64) { reseal(l, tree, 9, uint64(root1)|8<<40) }, api.ErrDamage},
 		{func(l []uint64) { reseal(l, root1, 15, 9) }, api.ErrDamage}, {func(l []uint64) { reseal(l, root1, 1, 3) }, api.ErrDamage}, {func(l []uint64) { reseal(l, root1, 2, 3) }, api.ErrDamage}, {func(l []uint64) { reseal(l, root1, 9, l[root1*16+8]) }, api.ErrDamage},
@@ -425,7 +426,7 @@ func TestCommit(t *testing.T) {
 	if after[0] != commitOf(uint64(root), 1) || m.Seq() != 1 || m.FreeData() != 63 || after[32] != 1 || !slices.Equal(after[16:32], before[16:32]) {
 		t.Error("the commit word and the area")
 	}
-	if after[root*16+rootArea] != 1 || after[root*16+rootSum] != sumOf(after[32:48]...) || after[root*16+rootSeq] != 1 {
+	if after[root*16+thinwords.RootArea] != 1 || after[root*16+thinwords.RootSum] != sumOf(after[32:48]...) || after[root*16+thinwords.RootSeq] != 1 {
 		t.Error("the root block")
 	}
 	old := int(before[0] & 0xFFFFF)
@@ -450,7 +451,7 @@ func TestLastSeq(t *testing.T) {
 	m.Commit()
 	l := image(t, a)
 	b := int(l[0] & 0xFFFFF)
-	l[b*16+rootSeq] = api.MaxThinSeq
+	l[b*16+thinwords.RootSeq] = api.MaxThinSeq
 	copy(l[b*16:], treenode.Seal(l[b*16:b*16+16]))
 	l[0] = commitOf(uint64(b), api.MaxThinSeq)
 	a.Load(0, l)
@@ -461,7 +462,7 @@ func TestLastSeq(t *testing.T) {
 	if !slices.Equal(m.Devices(), []int{1, 2}) {
 		t.Error("ErrLimit does not break the metadata")
 	}
-	l[b*16+rootTime] = api.MaxThinTime
+	l[b*16+thinwords.RootTime] = api.MaxThinTime
 	copy(l[b*16:], treenode.Seal(l[b*16:b*16+16]))
 	a.Load(0, l)
 	m = open1(t, x)
@@ -517,10 +518,10 @@ func same(a, b model) bool {
 func (g *guard) use(m *Meta) {
 	g.needed = map[int]bool{}
 	for b := range m.s.blocks.Len() {
-		g.needed[b] = m.s.blocks.Was(b) > 0 && b >= m.s.firstNode()
+		g.needed[b] = m.s.blocks.Was(b) > 0 && b >= m.s.FirstNode()
 	}
-	for b := range m.s.areaBlocks {
-		g.needed[1+m.s.last.area*m.s.areaBlocks+b] = true
+	for b := range m.s.AreaWords() / api.BlockWords {
+		g.needed[1+m.s.last.Area*m.s.AreaWords()/api.BlockWords+b] = true
 	}
 }
 
