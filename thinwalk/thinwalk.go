@@ -233,13 +233,13 @@ func (x *node) collect(l []api.ThinMapping) []api.ThinMapping {
 	return l
 }
 
-// Dump returns what the walk has found, and the number of devices that are too many.
-func (w *Walk) Dump() (api.Dump, int) {
+// Dump returns what the walk has found.
+func (w *Walk) Dump() api.Dump {
 	d := api.Dump{Data: w.Root.Data, Chunk: w.Root.Chunk, Time: w.Root.Time}
-	for _, x := range w.devices[:min(len(w.devices), api.MaxThin)] {
+	for _, x := range w.devices {
 		x.Mappings = x.top.collect(nil)
 		slices.SortStableFunc(x.Mappings, func(a, b api.ThinMapping) int { return cmp.Compare(a.Block, b.Block) })
 		d.Devices = append(d.Devices, x.ThinDevice)
 	}
-	return d, max(len(w.devices)-api.MaxThin, 0)
+	return d
 }
