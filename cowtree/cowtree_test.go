@@ -404,6 +404,17 @@ func TestNoSpace(t *testing.T) {
 	}
 }
 
+// A store without data has no data blocks that a tree could own.
+func TestNoData(t *testing.T) {
+	w := newWorld(t, 10)
+	s := New(w.x, w.blocks, nil, 1)
+	root, _ := s.Empty()
+	root, _, _, e := s.Insert(root, 1, 5, true)
+	if e != api.OK || s.Drop(root, true) != api.ErrRange {
+		t.Errorf("a tree that owns what does not exist: %d", e)
+	}
+}
+
 // held is a tree with what it has to have.
 type held struct {
 	root int

@@ -20,10 +20,21 @@ func staleLegs(s *activate.Stack, v api.Volume) []int {
 	return nil
 }
 
+// canOpen reports whether a volume is open and could be opened again. On a disk that is gone it could not, so that a leg
+// there must not become good.
+func canOpen(s *activate.Stack, g api.Group, name string) bool {
+	_, e := s.Device(name)
+	return e == api.OK && !slices.ContainsFunc(model.Needs(g, name), func(disk string) bool {
+		_, present := s.Number(disk)
+		return !present
+	})
+}
+
 // Work returns what can be gone on with.
 func Work(s *activate.Stack) []api.Work {
 	var l []api.Work
-	for _, v := range s.Group().Volumes {
+	g := s.Group()
+	for _, v := range g.Volumes {
 		for i, seg := range v.Segments {
 			if seg.Kind == api.SegMove {
 				l = append(l, api.Work{Kind: api.WorkMove, Volume: v.Name, Number: i})
@@ -33,7 +44,7 @@ func Work(s *activate.Stack) []api.Work {
 			l = append(l, api.Work{Kind: api.WorkSync, Volume: v.Name})
 		}
 		for _, k := range staleLegs(s, v) {
-			if _, e := s.Device(v.Segments[0].Areas[k].On); e == api.OK {
+			if canOpen(s, g, v.Segments[0].Areas[k].On) {
 				l = append(l, api.Work{Kind: api.WorkFill, Volume: v.Name, Number: k})
 			}
 		}

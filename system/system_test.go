@@ -297,6 +297,11 @@ func TestMissingDisks(t *testing.T) {
 					h.checked(5, 7, 9)
 				case k < 6:
 					h.work()
+				case k == 6:
+					c := api.Command{Kind: api.CmdTag + h.r.Intn(2), Volume: "v" + strconv.Itoa(h.r.Intn(4)), Tag: "t"}
+					h.mark(c)
+				case k == 7 && missing >= 0: // it comes back, but counts only behind the next activation
+					h.must(api.Do{Kind: api.DoMissing, At: missing})
 				default:
 					h.request()
 				}
@@ -325,6 +330,18 @@ func TestMissingDisks(t *testing.T) {
 			h.checked()
 			missing = -1
 		}
+	}
+}
+
+// mark does a command that changes nothing but tags, while disks come and go.
+func (h *harness) mark(c api.Command) {
+	x := h.do(api.Do{Kind: api.DoCommand, Command: c})
+	switch x.Error {
+	case api.OK:
+		h.flushed(h.names()...)
+	case api.ErrPower, api.ErrTwice, api.ErrNone:
+	default:
+		h.fatal("command", c, x.Error)
 	}
 }
 
