@@ -357,6 +357,17 @@ func TestResync(t *testing.T) {
 	failedAre(t, m, 0, 1)
 }
 
+// A sector that Resync has copied, but not flushed, is durable when a Read has told it.
+func TestReadBehindResync(t *testing.T) {
+	a, m := opened(t, 2, false)
+	a.Write(0, 1, 5)
+	a.Flush(0)
+	m.Resync(2)
+	reads(t, m, 1, 5)
+	a.Restart(nil)
+	has(t, a, 1, 1, 5)
+}
+
 // P21.6
 func TestFillAccept(t *testing.T) {
 	a, m := opened(t, 2, true, 1)

@@ -55,6 +55,8 @@ type world struct {
 	m      *Mirror
 	k      *track
 	next   uint64
+	crash  bool // the power has to fail now
+	sure   bool // no fault passes any more
 }
 
 func newWorld(t *testing.T, r *rand.Rand) *world {
@@ -93,6 +95,15 @@ func (w *world) dealt(e api.Errno) bool {
 	}
 	if e != api.ErrLeg || len(w.m.Failed()) == 0 {
 		w.t.Fatalf("error %d", e)
+	}
+	if w.r.Intn(4) == 0 && !w.sure { // a fault that passes: the power fails ahead of any commit
+		for d := range len(w.legs) + 1 {
+			if w.a.Missing(d) && !w.stale[d] {
+				w.a.SetMissing(d, false)
+			}
+		}
+		w.crash = true
+		return false
 	}
 	for _, k := range w.m.Failed() {
 		if e := w.m.Drop(k); e != api.OK {
@@ -235,11 +246,17 @@ func TestSound(t *testing.T) {
 				regionlog.Format(w.log, Regions(len(w.k.candidates), w.region))
 				w.stale[len(w.legs)] = true
 			}
+			w.crash = false
 			w.open()
-			if w.r.Intn(2) == 0 {
-				for at := range w.k.candidates {
-					w.readAt(at)
+			for at := range w.r.Intn(2) * len(w.k.candidates) {
+				if !w.readAt(at) {
+					break
 				}
+			}
+			if w.crash {
+				w.restart()
+				w.crash = false
+				w.open()
 			}
 		}
 		w.equal(seed)
@@ -249,6 +266,7 @@ func TestSound(t *testing.T) {
 // equal checks that all good legs are equal when nothing is dirty and all is flushed.
 func (w *world) equal(seed int) {
 	w.a.Fuse(0)
+	w.sure = true
 	for {
 		_, e := w.m.Resync(100)
 		if e == api.OK {

@@ -96,6 +96,12 @@ func (w *world) dealt(e api.Errno) bool {
 	if e != api.ErrLeg {
 		w.t.Fatalf("error %d", e)
 	}
+	if w.r.Intn(4) == 0 && len(w.stale) == 0 { // a fault that passes: the power fails ahead of any commit
+		for d := range w.legs {
+			w.a.SetMissing(d, false)
+		}
+		return false
+	}
 	for _, k := range w.v.Failed() {
 		if e := w.v.Drop(k); e != api.OK {
 			w.t.Fatalf("Drop(%d): %d", k, e)
