@@ -368,6 +368,22 @@ func TestReadBehindResync(t *testing.T) {
 	has(t, a, 1, 1, 5)
 }
 
+// So is one that Resync was copying when a leg failed.
+func TestReadBehindFailedResync(t *testing.T) {
+	a, m := opened(t, 3, false)
+	a.Write(0, 0, 5)
+	a.Flush(0)
+	a.SetMissing(1, true)
+	if _, e := m.Resync(1); e != api.ErrLeg {
+		t.Errorf("Resync with a missing leg: %d", e)
+	}
+	m.Drop(1)
+	m.Drop(0)
+	reads(t, m, 0, 5)
+	a.Restart(nil)
+	has(t, a, 2, 0, 5)
+}
+
 // P21.6
 func TestFillAccept(t *testing.T) {
 	a, m := opened(t, 2, true, 1)

@@ -280,7 +280,7 @@ func TestMissingDisks(t *testing.T) {
 			c.Volume, c.Policy = "v"+strconv.Itoa(i), api.Normal
 			h.command(c)
 		}
-		missing := -1
+		missing, replaced := -1, false
 		for range 6 {
 			if h.r.Intn(3) > 0 {
 				h.must(api.Do{Kind: api.DoFuse, Number: 1 + h.r.Intn(600)})
@@ -290,7 +290,7 @@ func TestMissingDisks(t *testing.T) {
 					break
 				}
 				switch k := h.r.Intn(30); {
-				case k == 0 && missing < 0:
+				case k == 0 && missing < 0 && !replaced:
 					missing = h.r.Intn(5)
 					h.must(api.Do{Kind: api.DoMissing, At: missing, Flag: true})
 				case k == 1:
@@ -300,25 +300,30 @@ func TestMissingDisks(t *testing.T) {
 				case k == 6:
 					c := api.Command{Kind: api.CmdTag + h.r.Intn(2), Volume: "v" + strconv.Itoa(h.r.Intn(4)), Tag: "t"}
 					h.mark(c)
+				case k == 8:
+					replaced = true // a stale leg more: no disk may be lost before it is filled
+					h.mark(api.Command{Kind: api.CmdLegNew, Volume: "v" + strconv.Itoa(h.r.Intn(4)), Number: h.r.Intn(4), Policy: api.Normal})
 				case k == 7 && missing >= 0: // it comes back, but counts only behind the next activation
 					h.must(api.Do{Kind: api.DoMissing, At: missing})
 				default:
 					h.request()
 				}
 			}
-			if h.r.Intn(3) == 0 && missing < 0 {
+			if h.r.Intn(3) == 0 && missing < 0 && !replaced {
 				missing = h.r.Intn(5)
 				h.must(api.Do{Kind: api.DoMissing, At: missing, Flag: true})
 			}
 			h.restart()
 			h.settle()
-			if missing < 0 || h.r.Intn(2) == 0 {
+			if h.r.Intn(2) == 0 {
 				continue
 			}
 			// The disk comes back as it was when it went; its legs are filled again.
-			h.must(api.Do{Kind: api.DoMissing, At: missing})
-			h.restart()
-			h.settle()
+			if missing >= 0 {
+				h.must(api.Do{Kind: api.DoMissing, At: missing})
+				h.restart()
+				h.settle()
+			}
 			if !h.allWork() {
 				h.fatal("work without end")
 			}
@@ -328,18 +333,18 @@ func TestMissingDisks(t *testing.T) {
 				}
 			}
 			h.checked()
-			missing = -1
+			missing, replaced = -1, false
 		}
 	}
 }
 
-// mark does a command that changes nothing but tags, while disks come and go.
+// mark does a command that changes nothing of what volumes read, while disks come and go.
 func (h *harness) mark(c api.Command) {
 	x := h.do(api.Do{Kind: api.DoCommand, Command: c})
 	switch x.Error {
 	case api.OK:
 		h.flushed(h.names()...)
-	case api.ErrPower, api.ErrTwice, api.ErrNone:
+	case api.ErrPower, api.ErrTwice, api.ErrNone, api.ErrRange, api.ErrStale, api.ErrSpace:
 	default:
 		h.fatal("command", c, x.Error)
 	}
