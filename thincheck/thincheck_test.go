@@ -177,7 +177,7 @@ func TestInnerNodes(t *testing.T) {
 		want []int
 	}{
 		{func(l words) { edit(l, leaf, func(n *api.TreeNode) { n.Level = 3 }) }, []int{6, 12}},
-		{func(l words) { edit(l, leaf, func(n *api.TreeNode) { n.Level, n.Entries, n.Seq = 3, nil, 5 }) }, []int{6, 7, 8, 12}},
+		{func(l words) { edit(l, leaf, func(n *api.TreeNode) { n.Level, n.Entries, n.Seq = 3, nil, 5 }) }, []int{6, 12}},
 		{func(l words) { edit(l, leaf, func(n *api.TreeNode) { n.Entries = nil }) }, []int{8, 12}},
 		{func(l words) { edit(l, one, func(n *api.TreeNode) { n.Entries = n.Entries[:1] }) }, []int{8, 12}},
 		{func(l words) { edit(l, last, func(n *api.TreeNode) { n.Entries = nil }) }, []int{8, 12, 8, 12}},

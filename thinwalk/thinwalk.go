@@ -150,19 +150,19 @@ func (w *Walk) visit(r reference) *node {
 
 // fits looks at the header of a node; it reports whether the walk may go through it.
 func (w *Walk) fits(r reference, n api.TreeNode, at int) bool {
-	level := !r.top && n.Level != r.level-1
+	if !r.top && n.Level != r.level-1 {
+		w.tell(Level, at, 0)
+		return false
+	}
 	seq := n.Seq > r.seq
 	empty := !r.top && len(n.Entries) == 0 || r.top && n.Level > 0 && len(n.Entries) < 2
-	if level {
-		w.tell(Level, at, 0)
-	}
 	if seq {
 		w.tell(Seq, at, 0)
 	}
 	if empty {
 		w.tell(Empty, at, 0)
 	}
-	return !level && !(w.Clean && (seq || empty))
+	return !(w.Clean && (seq || empty))
 }
 
 // through goes through the entries of a node.
