@@ -466,10 +466,21 @@ func TestRecord(t *testing.T) {
 	if _, ok := s.Number("pv1"); ok {
 		t.Error("a disk that is gone")
 	}
+	// It comes back: its volumes can be opened again, but no commit is on it until the next Start.
 	a.SetMissing(1, false)
 	is(t, s.Change(s.Group()), api.OK, "Change")
-	if _, ok := s.Number("pv1"); ok {
-		t.Error("a disk that is gone comes back with the next Start only")
+	if n, ok := s.Number("pv1"); n != 1 || !ok {
+		t.Error("a disk that has come back")
+	}
+	g = s.Group()
+	g.Disks[1].Missing = false
+	is(t, s.Record(g), api.OK, "Record")
+	y, _ := block.Span(a, 1, 8, 2100)
+	if c, e := ring.Read(y); e != api.OK || c.Seq >= s.Group().Seq-2 {
+		t.Errorf("a commit on a disk that was gone: %d of %d", c.Seq, s.Group().Seq)
+	}
+	if _, ok := s.Number("pv1"); !ok {
+		t.Error("Record leaves the devices as they are")
 	}
 	s = start(t, a)
 	if g := s.Group(); g.Disks[1].Missing || !slices.Equal(g.Tags, []string{"newer"}) {
@@ -477,6 +488,45 @@ func TestRecord(t *testing.T) {
 	}
 	a.Fuse(3)
 	is(t, s.Record(s.Group()), api.ErrPower, "the power")
+}
+
+// P36.6: what was recorded, and has not been opened, cannot be asked for anything.
+func TestRecorded(t *testing.T) {
+	s := started(t, 3)
+	do(t, s, api.Command{Kind: api.CmdLinear, Volume: "old", Extents: 2})
+	g := s.Group()
+	for _, c := range []api.Command{{Kind: api.CmdLinear, Volume: "lin", Extents: 3}, {Kind: api.CmdMirror, Volume: "mir", Extents: 2, Parts: 2, Chunk: 4}, {Kind: api.CmdParity, Volume: "par", Extents: 4, Parts: 3, Chunk: 4}, {Kind: api.CmdPool, Volume: "pool", Extents: 4, Number: 210, Chunk: 2}, {Kind: api.CmdCache, Volume: "lin", Extents: 2, Chunk: 2, Mode: api.WriteBack}, {Kind: api.CmdMove, Volume: "old"}} {
+		c.Policy = api.Normal
+		var e api.Errno
+		g, _, _, e = plan.Plan(g, c)
+		is(t, e, api.OK, "Plan")
+	}
+	is(t, s.Record(g), api.OK, "Record")
+	for _, name := range []string{"lin", "mir", "par"} {
+		if x, e := s.Device(name); x != nil || e != api.ErrNone {
+			t.Errorf("Device of %s: %d", name, e)
+		}
+		_, e := s.Read(name, 0)
+		is(t, e, api.ErrNone, "Read of "+name)
+		is(t, s.Write(name, 0, 1), api.ErrNone, "Write to "+name)
+		is(t, s.Flush(name), api.ErrNone, "Flush of "+name)
+	}
+	p, e := s.Pool("pool")
+	m, e1 := s.Mirror("mir")
+	r, e2 := s.Parity("par")
+	c, e3 := s.Cache("lin")
+	v, e4 := s.Mover("old", 0)
+	if p != nil || m != nil || r != nil || c != nil || v != nil {
+		t.Error("objects that were not opened")
+	}
+	for _, e := range []api.Errno{e, e1, e2, e3, e4} {
+		is(t, e, api.ErrKind, "an object that was not opened")
+	}
+	write(t, s, "old", 0, 5)
+	is(t, s.Sync(), api.OK, "Sync")
+	is(t, s.Change(s.Group()), api.OK, "Change")
+	reads(t, s, "mir", 0, 0)
+	reads(t, s, "old", 0, 5)
 }
 
 func TestBroken(t *testing.T) {
@@ -539,6 +589,44 @@ func TestChange(t *testing.T) {
 	is(t, s.Change(g), api.ErrConflict, "a leg was made stale")
 	s.Array().Fuse(2)
 	is(t, s.Change(s.Group()), api.ErrPower, "the power")
+}
+
+// P36.7: legs on a disk that does not tell any more that it is one of the group are stale when the devices are opened anew.
+func TestChangeWithoutDisk(t *testing.T) {
+	s := started(t, 3)
+	a := s.Array()
+	for _, c := range []api.Command{{Kind: api.CmdMirror, Volume: "mir", Extents: 2, Parts: 2, Chunk: 4, Number: 1}, {Kind: api.CmdParity, Volume: "par", Extents: 4, Parts: 3, Chunk: 4}} {
+		do(t, s, c)
+		write(t, s, c.Volume, 1, 5)
+	}
+	a.SetBad(1, 0, true)
+	g := s.Group()
+	g.Tags = []string{"t"}
+	is(t, s.Change(g), api.OK, "Change")
+	for _, name := range []string{"mir", "par"} {
+		if v, _ := model.Volume(s.Group(), name); !slices.Equal(v.Segments[0].Stale, []int{1}) {
+			t.Errorf("stale legs of %s: %v", name, v.Segments[0].Stale)
+		}
+		reads(t, s, name, 1, 5)
+	}
+	if g := s.Group(); g.Disks[1].Missing || !slices.Equal(g.Tags, []string{"t"}) {
+		t.Errorf("the description: %v", g)
+	}
+	// A description that is not valid is not made valid by it.
+	g = s.Group()
+	g.Volumes[0].Segments[0].Stale = []int{1, 1}
+	is(t, s.Change(g), api.ErrForm, "stale legs that do not ascend")
+	// No good leg is left: the description stays, and the volume cannot be opened.
+	a.SetBad(0, 0, true)
+	is(t, s.Change(s.Group()), api.OK, "Change")
+	if _, e := s.Read("mir", 1); e != api.ErrMissing {
+		t.Errorf("no legs: %d", e)
+	}
+	a.SetBad(0, 0, false)
+	a.SetBad(1, 0, false)
+	s = start(t, a)
+	reads(t, s, "mir", 1, 5)
+	reads(t, s, "par", 1, 5)
 }
 
 // P36.8

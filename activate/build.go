@@ -1,7 +1,6 @@
 package activate
 
 import (
-	"maps"
 	"slices"
 
 	"volumegroup/api"
@@ -42,7 +41,6 @@ func Build(a *disk.Array, g api.Group) *Stack {
 func (s *Stack) open() {
 	s.devices = devices{map[string]block.Device{}, map[string]any{}, map[place]*relocate.Mover{}, map[string]api.Errno{}}
 	s.present = presentDisks(s.array, s.group)
-	maps.DeleteFunc(s.present, func(id uint64, _ member) bool { return s.gone[id] })
 	if _, e := model.Check(s.group); e != api.OK {
 		for _, v := range s.group.Volumes {
 			s.errors[v.Name] = api.ErrForm
@@ -139,19 +137,23 @@ func (s *Stack) openSegment(g api.Group, seg api.Segment, present map[uint64]mem
 	return nil, api.ErrRange
 }
 
-// below returns the device of a volume that another one uses.
-func (s *Stack) below(name string) (block.Device, api.Errno) {
+// opened returns the device of a volume that is open. A volume that was recorded since the devices were opened has none.
+func (s *Stack) opened(name string) (block.Device, api.Errno) {
 	if e := s.errors[name]; e != api.OK {
 		return nil, e
 	}
-	return s.devices.devices[name], api.OK
+	x := s.devices.devices[name]
+	if x == nil {
+		return nil, api.ErrNone
+	}
+	return x, api.OK
 }
 
 // legs returns the devices of the legs of a segment. One that cannot be opened has to be stale.
 func (s *Stack) legs(seg api.Segment) ([]block.Device, api.Errno) {
 	var l []block.Device
 	for k, a := range seg.Areas {
-		x, e := s.below(a.On)
+		x, e := s.opened(a.On)
 		if e != api.OK {
 			if !slices.Contains(seg.Stale, k) {
 				return nil, e
@@ -171,7 +173,7 @@ func (s *Stack) openMirror(v api.Volume) (block.Device, api.Errno) {
 	}
 	var log block.Device
 	if seg.Log != "" && !slices.Contains(seg.Stale, len(legs)) {
-		if log, e = s.below(seg.Log); e != api.OK {
+		if log, e = s.opened(seg.Log); e != api.OK {
 			return nil, e
 		}
 	}
@@ -203,11 +205,11 @@ func (s *Stack) openParity(v api.Volume) (block.Device, api.Errno) {
 
 func (s *Stack) openPool(v api.Volume) api.Errno {
 	areas := v.Segments[0].Areas
-	meta, e := s.below(areas[0].On)
+	meta, e := s.opened(areas[0].On)
 	if e != api.OK {
 		return e
 	}
-	data, e := s.below(areas[1].On)
+	data, e := s.opened(areas[1].On)
 	if e != api.OK {
 		return e
 	}
@@ -234,7 +236,7 @@ func (s *Stack) openCache(v api.Volume) (block.Device, api.Errno) {
 	seg := v.Segments[0]
 	var l []block.Device
 	for _, a := range seg.Areas {
-		x, e := s.below(a.On)
+		x, e := s.opened(a.On)
 		if e != api.OK {
 			return nil, e
 		}

@@ -12,6 +12,7 @@ import (
 	"volumegroup/disk"
 	"volumegroup/label"
 	"volumegroup/model"
+	"volumegroup/plan"
 	"volumegroup/ring"
 )
 
@@ -309,6 +310,98 @@ func finish(t *testing.T, s *activate.Stack) {
 		}
 	}
 	t.Fatal("work without end")
+}
+
+// lostLegs is a group of three disks with a mirror and a volume with parity, of which disk 1 has gone missing and both have
+// been written since.
+func lostLegs(t *testing.T) *activate.Stack {
+	t.Helper()
+	s := started(t, 3, 0)
+	do(t, s, api.Command{Kind: api.CmdMirror, Volume: "m", Extents: 2, Parts: 2, Chunk: 4, Number: 1}, api.Command{Kind: api.CmdParity, Volume: "r", Extents: 4, Parts: 3, Chunk: 4})
+	fillWith(t, s, "m", 20)
+	fillWith(t, s, "r", 40)
+	s.Array().SetMissing(1, true)
+	fillWith(t, s, "m", 120)
+	fillWith(t, s, "r", 140)
+	return s
+}
+
+func stale(s *activate.Stack, name string) []int {
+	v, _ := model.Volume(s.Group(), name)
+	return v.Segments[0].Stale
+}
+
+// P37.3, P37.4: a stale leg that is open is work, whether its disk is there at the moment or not.
+func TestFillWithoutDisk(t *testing.T) {
+	s := lostLegs(t)
+	work := []api.Work{{Kind: api.WorkFill, Volume: "m", Number: 1}, {Kind: api.WorkFill, Volume: "r", Number: 1}}
+	for range 3 {
+		if l := Work(s); !slices.Equal(l, work) {
+			t.Fatalf("Work while the disk is away: %v", l)
+		}
+		for _, w := range work {
+			if done, e := Step(s, w, 100); done || e != api.OK {
+				t.Errorf("Step of %v while the disk is away: %v, %d", w, done, e)
+			}
+		}
+	}
+	hasAll(t, s, "m", 120, 8)
+	hasAll(t, s, "r", 140, 16)
+	s.Array().SetMissing(1, false)
+	for _, w := range work {
+		if done, e := Step(s, w, 1); done || e != api.OK {
+			t.Errorf("the first step of %v: %v, %d", w, done, e)
+		}
+		if done, e := Step(s, w, 100); !done || e != api.OK || len(stale(s, w.Volume)) > 0 {
+			t.Errorf("the last step of %v: %v, %d", w, done, e)
+		}
+	}
+	if l := Work(s); len(l) > 0 || !s.Group().Disks[1].Missing {
+		t.Errorf("Work behind all steps: %v", l)
+	}
+	// What a command changes to keeps what is read; then another disk may be lost.
+	do(t, s, api.Command{Kind: api.CmdTag, Volume: "m", Tag: "new"})
+	hasAll(t, s, "m", 120, 8)
+	hasAll(t, s, "r", 140, 16)
+	s.Array().SetMissing(0, true)
+	hasAll(t, s, "m", 120, 8)
+	hasAll(t, s, "r", 140, 16)
+	do(t, s, api.Command{Kind: api.CmdTag, Volume: "m", Tag: "newer"})
+	hasAll(t, s, "m", 120, 8)
+	hasAll(t, s, "r", 140, 16)
+}
+
+// P37.3: a stale leg that has not been opened is no work; behind the next change of the description it can be.
+func TestFillOfClosedLegs(t *testing.T) {
+	s := start(t, lostLegs(t).Array())
+	if l := Work(s); !slices.Equal(l, []api.Work{{Kind: api.WorkSync, Volume: "m"}}) {
+		t.Errorf("Work: %v", l)
+	}
+	finish(t, s)
+	s.Array().SetMissing(1, false)
+	if l := Work(s); len(l) > 0 {
+		t.Errorf("the legs were not opened: %v", l)
+	}
+	do(t, s, api.Command{Kind: api.CmdTag, Volume: "m", Tag: "new"})
+	if l := Work(s); len(l) != 2 {
+		t.Errorf("the legs are open: %v", l)
+	}
+	finish(t, s)
+	s = start(t, s.Array())
+	s.Array().SetMissing(0, true)
+	hasAll(t, s, "m", 120, 8)
+	hasAll(t, s, "r", 140, 16)
+}
+
+// P37.3: what was recorded and not opened is no work.
+func TestWorkOfRecorded(t *testing.T) {
+	s := started(t, 2, 0)
+	g, _, _, e := plan.Plan(s.Group(), api.Command{Kind: api.CmdMirror, Policy: api.Normal, Volume: "m", Extents: 2, Parts: 2, Chunk: 4})
+	is(t, e, api.OK, "Plan")
+	is(t, s.Record(g), api.OK, "Record")
+	if l := Work(s); len(l) > 0 {
+		t.Errorf("Work: %v", l)
+	}
 }
 
 func TestSyncWork(t *testing.T) {

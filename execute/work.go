@@ -11,30 +11,26 @@ import (
 
 // staleLegs returns the stale legs of an open mirror or volume with parity, as the object tells them.
 func staleLegs(s *activate.Stack, v api.Volume) []int {
+	var l []int
 	if m, e := s.Mirror(v.Name); e == api.OK {
-		return slices.DeleteFunc(m.Stale(), func(k int) bool { return k >= len(v.Segments[0].Areas) })
+		l = m.Stale()
+	} else if p, e := s.Parity(v.Name); e == api.OK {
+		l = p.Stale()
 	}
-	if p, e := s.Parity(v.Name); e == api.OK {
-		return p.Stale()
-	}
-	return nil
+	return slices.DeleteFunc(l, func(k int) bool { return k >= len(v.Segments[0].Areas) })
 }
 
-// canOpen reports whether a volume is open and could be opened again. On a disk that is gone it could not, so that a leg
-// there must not become good.
-func canOpen(s *activate.Stack, g api.Group, name string) bool {
+// isOpen reports whether a volume is open. Whether its disk is there at the moment is not asked: Fill deals with a leg that
+// cannot be written.
+func isOpen(s *activate.Stack, name string) bool {
 	_, e := s.Device(name)
-	return e == api.OK && !slices.ContainsFunc(model.Needs(g, name), func(disk string) bool {
-		_, present := s.Number(disk)
-		return !present
-	})
+	return e == api.OK
 }
 
 // Work returns what can be gone on with.
 func Work(s *activate.Stack) []api.Work {
 	var l []api.Work
-	g := s.Group()
-	for _, v := range g.Volumes {
+	for _, v := range s.Group().Volumes {
 		for i, seg := range v.Segments {
 			if seg.Kind == api.SegMove {
 				l = append(l, api.Work{Kind: api.WorkMove, Volume: v.Name, Number: i})
@@ -44,7 +40,7 @@ func Work(s *activate.Stack) []api.Work {
 			l = append(l, api.Work{Kind: api.WorkSync, Volume: v.Name})
 		}
 		for _, k := range staleLegs(s, v) {
-			if canOpen(s, g, v.Segments[0].Areas[k].On) {
+			if isOpen(s, v.Segments[0].Areas[k].On) {
 				l = append(l, api.Work{Kind: api.WorkFill, Volume: v.Name, Number: k})
 			}
 		}

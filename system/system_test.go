@@ -303,8 +303,10 @@ func TestMissingDisks(t *testing.T) {
 				case k == 8:
 					replaced = true // a stale leg more: no disk may be lost before it is filled
 					h.mark(api.Command{Kind: api.CmdLegNew, Volume: "v" + strconv.Itoa(h.r.Intn(4)), Number: h.r.Intn(4), Policy: api.Normal})
-				case k == 7 && missing >= 0: // it comes back, but counts only behind the next activation
-					h.must(api.Do{Kind: api.DoMissing, At: missing})
+				case k == 7 && missing >= 0:
+					h.comesBack(missing)
+				case k == 9 && missing >= 0 && !replaced: // it goes again
+					h.must(api.Do{Kind: api.DoMissing, At: missing, Flag: true})
 				default:
 					h.request()
 				}
@@ -336,6 +338,52 @@ func TestMissingDisks(t *testing.T) {
 			missing, replaced = -1, false
 		}
 	}
+}
+
+// comesBack lets a disk come back; its legs may be filled, but no commit is on it until the next activation.
+func (h *harness) comesBack(disk int) {
+	h.must(api.Do{Kind: api.DoMissing, At: disk})
+	for range h.r.Intn(2) * 60 {
+		if !h.s.Array().Down() {
+			h.work()
+		}
+	}
+}
+
+// P40.2: legs to be filled are pieces of work, also while their disk is away.
+func TestReportOfWork(t *testing.T) {
+	s, e := New([]int{700, 700})
+	if e != api.OK {
+		t.Fatal(e)
+	}
+	step := func(d api.Do, want api.Done) {
+		t.Helper()
+		if x := s.Do(d); x.Error != want.Error || x.Count != want.Count || x.Value != want.Value {
+			t.Errorf("step %d: %v, not %v", d.Kind, x, want)
+		}
+	}
+	step(api.Do{Kind: api.DoInit, Name: "vg", Value: 5, At: 4, Number: 500}, api.Done{})
+	step(api.Do{Kind: api.DoStart}, api.Done{})
+	step(api.Do{Kind: api.DoCommand, Command: api.Command{Kind: api.CmdMirror, Policy: api.Normal, Volume: "m", Extents: 2, Parts: 2, Chunk: 4, Number: 1}}, api.Done{})
+	step(api.Do{Kind: api.DoWrite, Name: "m", At: 1, Value: 3}, api.Done{})
+	step(api.Do{Kind: api.DoMissing, At: 1, Flag: true}, api.Done{})
+	step(api.Do{Kind: api.DoReport}, api.Done{})
+	step(api.Do{Kind: api.DoWrite, Name: "m", At: 1, Value: 4}, api.Done{})
+	step(api.Do{Kind: api.DoReport}, api.Done{Count: 1})
+	step(api.Do{Kind: api.DoWork, At: 1, Number: 9}, api.Done{Error: api.ErrNone})
+	step(api.Do{Kind: api.DoWork, Number: 9}, api.Done{})
+	step(api.Do{Kind: api.DoReport}, api.Done{Count: 1})
+	step(api.Do{Kind: api.DoMissing, At: 1}, api.Done{})
+	step(api.Do{Kind: api.DoWork, Number: 7}, api.Done{})
+	step(api.Do{Kind: api.DoWork, Number: 1}, api.Done{Count: 1})
+	step(api.Do{Kind: api.DoReport}, api.Done{})
+	step(api.Do{Kind: api.DoCommand, Command: api.Command{Kind: api.CmdTag, Volume: "m", Tag: "t"}}, api.Done{})
+	step(api.Do{Kind: api.DoRead, Name: "m", At: 1}, api.Done{Value: 4})
+	step(api.Do{Kind: api.DoStop}, api.Done{})
+	step(api.Do{Kind: api.DoStart}, api.Done{})
+	step(api.Do{Kind: api.DoReport}, api.Done{})
+	step(api.Do{Kind: api.DoMissing, Flag: true}, api.Done{})
+	step(api.Do{Kind: api.DoRead, Name: "m", At: 1}, api.Done{Value: 4})
 }
 
 // mark does a command that changes nothing of what volumes read, while disks come and go.
